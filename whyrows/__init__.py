@@ -1,0 +1,1 @@
+"""Whyrows: answers that tell why."""
