@@ -13,8 +13,8 @@ OWN_NAMES = set("""len range enumerate zip min max sum abs sorted reversed int s
     isinstance ord repr any all divmod Exception ValueError TypeError KeyError IndexError LookupError ZeroDivisionError
     ArithmeticError OverflowError RuntimeError NotImplementedError AttributeError StopIteration""".split())
 OWN_METHODS = set("""append clear copy count endswith extend find get index insert isalnum isalpha isdigit islower
-    isspace isupper items join keys ljust lower lstrip partition pop remove replace reverse rfind rjust rpartition rsplit
-    rstrip setdefault split splitlines startswith strip update upper values zfill bit_length""".split())
+    isspace isupper items join keys ljust lower lstrip partition pop remove replace reverse rfind rjust rpartition
+    rsplit rstrip setdefault split splitlines startswith strip update upper values zfill bit_length""".split())
 DOUBLE_METHODS = {"__init__", "__eq__", "__repr__", "__str__", "__len__"}
 WORDS_NOWHERE = re.compile(
     r"\b(type|typing|typing_extensions|enum|Enum|IntEnum|StrEnum|Flag|IntFlag|Generic|Protocol|ABC|ABCMeta|namedtuple"
@@ -216,7 +216,7 @@ class PackageTest(unittest.TestCase):
             self.assertTrue(path.is_file())
             self.assertRegex(path.name, r"\A([a-z][a-z0-9_]*|__init__|__main__)\.py\Z")
             self.assertNotIn(path.stem, PYTHON_NAMES)
-            self.assertNotRegex(path.stem, r"\A(test|tests|testing|test_.*|site|conftest|sitecustomize|usercustomize)\Z")
+            self.assertNotRegex(path.stem, r"\A(tests?|testing|test_.*|site|conftest|sitecustomize|usercustomize)\Z")
             self.assertIsNone(WORDS_NOWHERE.fullmatch(path.stem))
 
     def test_each_file_keeps_to_the_rules(self):
@@ -248,14 +248,19 @@ class FaultsTest(unittest.TestCase):
         for text in [
             "import os\n", "from os import path\n", "from . import words\n", "def f(*x):\n    return x\n",
             "def f(x):\n    assert x\n", "def f(x):\n    with x:\n        pass\n", "def f(x):\n    return x / 2\n",
-            "X = 1.5\n", "X = b''\n", "def f(x):\n    return {a for a in x}\n", "def f(x):\n    return any(a for a in x)\n",
-            "def f(x):\n    return [a for b in x for a in b]\n", "def f(x):\n    return open(x)\n", "def f(x):\n    x.sort()\n",
+            "X = 1.5\n", "X = b''\n", "def f(x):\n    return {a for a in x}\n",
+            "def f(x):\n    return any(a for a in x)\n",
+            "def f(x):\n    return [a for b in x for a in b]\n", "def f(x):\n    return open(x)\n",
+            "def f(x):\n    x.sort()\n",
             "def f(x):\n    return hash(x)\n", "def f(sum):\n    return sum\n", "def f(x):\n    a = b = x\n",
             "def f(x):\n    _ = x\n", "def f(x, y):\n    return x is y\n",
             "X = 1\nX = 2\n", "f(1)\n", "X = 'a%'\n", "X = '\xe9'\n", "X = 1 # its type\n", "def f(x):\n\treturn x\n",
-            "def f(x):\n    return 2 ** x\n", "def f(x):\n    return (y := x)\n", "def f(x):\n    for y in x:\n        pass\n    else:\n        pass\n",
-            "def f(x):\n    try:\n        x()\n    except:\n        pass\n", "class A:\n    x = 1\n", "class A(B, C):\n    pass\n",
-            "def f(x):\n" + "    x = 1\n" * 40, "X = 1\n" + "\n" * 400, "X = '" + "a" * 120 + "'\n", "def f(x):\n    yield x\n",
+            "def f(x):\n    return 2 ** x\n", "def f(x):\n    return (y := x)\n",
+            "def f(x):\n    for y in x:\n        pass\n    else:\n        pass\n",
+            "def f(x):\n    try:\n        x()\n    except:\n        pass\n", "class A:\n    x = 1\n",
+            "class A(B, C):\n    pass\n",
+            "def f(x):\n" + "    x = 1\n" * 40, "X = 1\n" + "\n" * 400, "X = '" + "a" * 120 + "'\n",
+            "def f(x):\n    yield x\n",
             "def f(x):\n    global y\n", "def f(x):\n    return chr(x)\n", "def f(x):\n    return f(*x)\n",
         ]:
             with self.subTest(text=text[:80]):

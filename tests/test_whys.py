@@ -91,7 +91,8 @@ class IsWhyTest(unittest.TestCase):
     def test_products_out_of_order(self):
         self.assert_told(False, [
             [(("b",), 1), (("a",), 1)], [(("a",), 1), ((), 1)], [(("a", "b"), 1), (("a",), 1)],
-            [(("aa",), 1), (("a9",), 1)], [(("b",), 1), (("a", "a"), 1)], [((), 1), (("a",), 1), (("c",), 1), (("b",), 1)],
+            [(("aa",), 1), (("a9",), 1)], [(("b",), 1), (("a", "a"), 1)],
+            [((), 1), (("a",), 1), (("c",), 1), (("b",), 1)],
         ])
 
     def test_a_product_twice(self):
@@ -282,7 +283,8 @@ class TimesTest(unittest.TestCase, HandedOver):
     def test_products_of_many_factors(self):
         self.assertEqual(times([(tuple(["a"] * 300), 1)], [(tuple(["a"] * 150 + ["b"] * 150), 1)]),
                          [(tuple(["a"] * 450 + ["b"] * 150), 1)])
-        odd, even = ["w" + str(number) for number in range(101, 500, 2)], ["w" + str(number) for number in range(100, 500, 2)]
+        odd = ["w" + str(number) for number in range(101, 500, 2)]
+        even = ["w" + str(number) for number in range(100, 500, 2)]
         self.assertEqual(times([(tuple(odd), 2)], [(tuple(even), 3)]),
                          [(tuple(["w" + str(number) for number in range(100, 500)]), 6)])
 

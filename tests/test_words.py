@@ -38,7 +38,8 @@ class WholeTest(WordsTestCase):
 
 class WordTest(WordsTestCase):
     def test_words(self):
-        self.assert_told(True, is_word, ["a", "z", "edge", "a7", "z0", "if", "none", "a1b2c3", "abcdefghijkl", "a" + "9" * 11])
+        self.assert_told(True, is_word, ["a", "z", "edge", "a7", "z0", "if", "none", "a1b2c3", "abcdefghijkl",
+                                         "a" + "9" * 11])
 
     def test_lengths(self):
         for length in range(20):
