@@ -1,5 +1,7 @@
 """What several of the test files need."""
 
+import copy
+
 
 def nested(depth, wrap):
     """A thing built of `wrap`, `depth` deep."""
@@ -18,6 +20,32 @@ ODD_THINGS = [
 ]
 
 SIXTY_FIGURES = 10 ** 60 - 1
+FOUR_HUNDRED_FIGURES = 10 ** 400 - 1
+
+
+def kept_in(thing):
+    """Every list and dict in a thing, itself among them, each as often as it stands there."""
+    found = []
+    if isinstance(thing, (list, dict)):
+        found.append(thing)
+    if isinstance(thing, (list, tuple)):
+        parts = thing
+    else:
+        parts = list(thing.values()) if isinstance(thing, dict) else []
+    for part in parts:
+        found.extend(kept_in(part))
+    return found
+
+
+def spoil(thing):
+    """Changes every list and dict in a thing."""
+    for kept in kept_in(thing):
+        if isinstance(kept, dict):
+            kept.clear()
+            kept["spoilt"] = "spoilt"
+        else:
+            kept.append("spoilt")
+            kept.reverse()
 
 
 class HandedOver:
@@ -25,21 +53,19 @@ class HandedOver:
 
     def assert_own_answer(self, call, make_arguments, expected):
         """`make_arguments` makes the same arguments anew each time, so that what one call got can be spoilt."""
+        expected = copy.deepcopy(expected)
         arguments = make_arguments()
         answer = call(*arguments)
         self.assertEqual(answer, expected)
         self.assertEqual(arguments, make_arguments(), "what is handed in is changed")
-        for argument in arguments:
-            self.assertIsNot(answer, argument)
-        if isinstance(answer, list):
-            answer.append("spoilt")
-            answer.reverse()
-            self.assertEqual(arguments, make_arguments(), "the answer is not the asker's own")
+        places = [id(kept) for kept in kept_in(answer)]
+        self.assertEqual(len(set(places)), len(places), "a list stands at two places of what is told")
+        self.assertEqual(set(places) & {id(kept) for kept in kept_in(arguments)}, set(), "what is handed in is told")
+        spoil(answer)
+        self.assertEqual(arguments, make_arguments(), "the answer is not the asker's own")
         self.assertEqual(call(*arguments), expected, "a change of the answer changed a later one")
         kept = call(*arguments)
-        for argument in arguments:
-            if isinstance(argument, list):
-                argument.append("spoilt")
-                argument.reverse()
+        spoil(arguments)
         self.assertEqual(kept, expected, "a change of what was handed in changed the answer")
         self.assertEqual(call(*make_arguments()), expected, "a change of what was handed in changed a later answer")
+        self.assertEqual(kept, expected, "a later answer changed an earlier one")

@@ -22,6 +22,13 @@ WORDS_NOWHERE = re.compile(
 NAMES_NOWHERE = set("""register mro elements open input version_info with_traceback add_note attrgetter breakpoint
     builtins compile copyright credits delattr dir eval exec exit gc getattr globals hasattr help id importlib license
     locals methodcaller os quit setattr super vars sys chr print format format_map""".split())
+KEYWORDS = {"sorted": {"key", "reverse"}, "min": {"key", "default"}, "max": {"key", "default"}, "sum": {"start"},
+            "enumerate": {"start"}, "zip": {"strict"}}
+WALKED_AT_ONCE = {"zip", "enumerate", "reversed", "range"}
+WALKED_METHODS = {"items", "keys", "values"}
+WALKERS = {"list", "tuple", "dict", "sorted", "sum", "any", "all", "enumerate", "zip", "min", "max"}
+NAMES_OF_VALUES = {name for kind in (str, int, list, dict, set, bytes) for name in dir(kind)}
+VALUES_LET_BY = set("count index title find get join lower upper split strip copy add".split())
 NODES = (
     ast.Module, ast.ImportFrom, ast.alias, ast.FunctionDef, ast.ClassDef, ast.arguments, ast.arg, ast.Lambda,
     ast.Assign, ast.AugAssign, ast.If, ast.While, ast.For, ast.Return, ast.Break, ast.Continue, ast.Pass, ast.Raise,
@@ -189,9 +196,81 @@ def methods_of(trees):
             for part in node.body if isinstance(part, ast.FunctionDef)}
 
 
+def values_of(trees):
+    return {node.attr for tree in trees for node in ast.walk(tree)
+            if isinstance(node, ast.Attribute) and isinstance(node.ctx, ast.Store)}
+
+
+def called(node):
+    """The name of a function that is called by its name alone."""
+    return node.func.id if isinstance(node, ast.Call) and isinstance(node.func, ast.Name) else None
+
+
+def is_set(node):
+    return isinstance(node, ast.Set) or called(node) in ("set", "frozenset")
+
+
+def is_walked_at_once(node):
+    if isinstance(node, ast.Call) and isinstance(node.func, ast.Attribute):
+        return node.func.attr in WALKED_METHODS
+    return called(node) in WALKED_AT_ONCE
+
+
+def stands_by_a_set(node, around):
+    if isinstance(node, ast.BinOp):
+        return stands_by_a_set(around[node], around)
+    if isinstance(node, ast.Compare):
+        return all(isinstance(sign, (ast.In, ast.NotIn, ast.Eq, ast.NotEq)) for sign in node.ops)
+    return called(node) in ("sorted", "len") and not node.keywords
+
+
+def stands_by_a_walk(node, walked):
+    if isinstance(node, (ast.For, ast.comprehension)):
+        return node.iter is walked
+    if isinstance(node, ast.Call) and isinstance(node.func, ast.Attribute):
+        return node.func.attr == "join"
+    if called(node) in ("min", "max"):
+        return len(node.args) == 1
+    return called(node) in WALKERS and (node.args[0] is walked or called(node) == "zip")
+
+
+def place_faults(tree):
+    around = {part: node for node in ast.walk(tree) for part in ast.iter_child_nodes(node)}
+    for node in ast.walk(tree):
+        if is_set(node) and not stands_by_a_set(around[node], around):
+            yield node.lineno, "L24: a set that is kept or walked"
+        if is_walked_at_once(node) and not stands_by_a_walk(around[node], node):
+            yield node.lineno, "L23: not walked on the spot"
+        if called(node) in PYTHON_NAMES:
+            if not {part.arg for part in node.keywords} <= KEYWORDS.get(called(node), set()):
+                yield node.lineno, "L22: a keyword that is not used"
+
+
+def shadow_faults(tree):
+    taken = {name for node in tree.body if isinstance(node, (ast.ClassDef, ast.ImportFrom))
+             for name in bound_at_top(node)}
+    for node in ast.walk(tree):
+        if isinstance(node, ast.arg) and node.arg in taken:
+            yield node.lineno, "L15: a parameter called like a class or an import"
+        if isinstance(node, ast.Name) and isinstance(node.ctx, ast.Store) and node.id in taken:
+            yield node.lineno, "L15: a local called like a class or an import"
+
+
+def class_name_faults(trees):
+    """What is asked of the names of methods and values in the whole package."""
+    methods, values = methods_of(trees), values_of(trees)
+    for name in sorted(methods & values):
+        yield 0, "L18: a method in one class and a value in another: " + name
+    for name in sorted(methods - DOUBLE_METHODS):
+        if name in NAMES_OF_VALUES - OWN_METHODS - {"add", "discard"} or name.startswith("__"):
+            yield 0, "L5, L26: a method that is not free: " + name
+    for name in sorted(values & NAMES_OF_VALUES - VALUES_LET_BY):
+        yield 0, "L26: a value that is not free: " + name
+
+
 def faults(text, defined_in=None, own=frozenset()):
     tree = ast.parse(text)
-    found = list(text_faults(text)) + list(top_faults(tree))
+    found = list(text_faults(text)) + list(top_faults(tree)) + list(place_faults(tree)) + list(shadow_faults(tree))
     found += list(import_faults(tree, defined_in or {})) + list(method_faults(tree, own))
     for node in ast.walk(tree):
         fault = node_fault(node)
@@ -227,6 +306,9 @@ class PackageTest(unittest.TestCase):
             with self.subTest(module=module):
                 self.assertEqual(faults(text, defined_in, own), [])
 
+    def test_names_of_methods_and_values(self):
+        self.assertEqual(list(class_name_faults(list(self.trees.values()))), [])
+
     def test_no_two_files_draw_from_one_another(self):
         left = {module: drawn_from(tree) for module, tree in self.trees.items()}
         while left:
@@ -240,7 +322,9 @@ class FaultsTest(unittest.TestCase):
 
     def test_what_is_let_by(self):
         for text in ['"""A file."""\n', "X = 1\n", "def f(x, y=2):\n    return [a for a in x if a is not None]\n",
-                     "class E(ValueError):\n    pass\n", "def f(x):\n    x.append(-1)\n    return x[0] ** 2\n"]:
+                     "class E(ValueError):\n    pass\n", "def f(x):\n    x.append(-1)\n    return x[0] ** 2\n",
+                     "def f(x):\n    return sorted(set(x) - set([1])) + [len(set(x))]\n",
+                     "def f(x):\n    return [a for a in range(max([b for b, c in x.items()], default=0))]\n"]:
             with self.subTest(text=text):
                 self.assertEqual(faults(text), [])
 
@@ -262,9 +346,25 @@ class FaultsTest(unittest.TestCase):
             "def f(x):\n" + "    x = 1\n" * 40, "X = 1\n" + "\n" * 400, "X = '" + "a" * 120 + "'\n",
             "def f(x):\n    yield x\n",
             "def f(x):\n    global y\n", "def f(x):\n    return chr(x)\n", "def f(x):\n    return f(*x)\n",
+            "def f(x):\n    y = set(x)\n    return y\n", "def f(x):\n    return [a for a in set(x)]\n",
+            "def f(x):\n    return sorted(set(x), key=len)\n", "def f(x):\n    return set(x) - {1}\n",
+            "def f(x):\n    y = range(x)\n    return y\n", "def f(x):\n    return x.items()\n",
+            "def f(x):\n    return int(x, base=2)\n", "class A:\n    pass\n\n\ndef f(A):\n    return 1\n",
         ]:
             with self.subTest(text=text[:80]):
                 self.assertNotEqual(faults(text), [])
+
+    def test_names_of_methods_and_values(self):
+        for text, truth in [
+            ("class A:\n    def fits(self):\n        self.top = 1\n", True),
+            ("class A:\n    def top(self):\n        return 1\n\n    def put(self):\n        self.top = 1\n", False),
+            ("class A:\n    def sort(self):\n        return 1\n", False),
+            ("class A:\n    def __hash__(self):\n        return 1\n", False),
+            ("class A:\n    def put(self):\n        self.items = 1\n", False),
+            ("class A:\n    def put(self):\n        self.count = 1\n", True),
+        ]:
+            with self.subTest(text=text):
+                self.assertEqual(list(class_name_faults([ast.parse(text)])) == [], truth)
 
 
 if __name__ == "__main__":

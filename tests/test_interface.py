@@ -1,0 +1,47 @@
+"""Every name of the interface is there, with its arguments as they are told."""
+
+import importlib
+import inspect
+import unittest
+
+FUNCTIONS = {
+    "words": ["is_whole(thing)", "is_word(thing)", "is_var(thing)", "is_value(thing)", "is_row(thing)"],
+    "orders": ["value_before(one, other)", "row_before(one, other)", "in_order(rows)"],
+    "whys": ["is_why(thing)", "of_fact(name)", "gathered(pairs)", "plus(one, other)", "times(one, other)"],
+    "parts": ["ways_of(why)", "names_of(why)", "degree(why)", "without(why, names)", "bearing(why, name)",
+              "filled(why, whys)"],
+    "sets": ["thinned(sets)", "agreed(one, other)", "stoppers(accord)", "least(why)"],
+    "worths": ["reckoned(why, by, worths)"],
+}
+RECKONINGS = ["Counts()", "Costs()", "Bests(many=3)", "Trusts(top=100)", "Truths()", "Hands()"]
+METHODS = ["fits(thing)", "nought()", "unit()", "either(one, other)", "both(one, other)", "repeated(worth, many)"]
+
+
+class InterfaceTest(unittest.TestCase):
+    def assert_there(self, holder, told):
+        with self.subTest(told=told):
+            name = told.partition("(")[0]
+            thing = getattr(holder, name)
+            self.assertEqual(name + str(inspect.signature(thing)), told)
+            return thing
+
+    def test_functions(self):
+        for file, functions in FUNCTIONS.items():
+            module = importlib.import_module("whyrows." + file)
+            for told in functions:
+                thing = self.assert_there(module, told)
+                self.assertTrue(inspect.isfunction(thing))
+                self.assertEqual(thing.__module__, module.__name__)
+
+    def test_reckonings(self):
+        module = importlib.import_module("whyrows.reckonings")
+        self.assert_there(module, "Reckoning()")
+        for told in RECKONINGS:
+            made = self.assert_there(module, told)
+            self.assertTrue(issubclass(made, module.Reckoning))
+            for method in METHODS:
+                self.assert_there(made(), method)
+
+
+if __name__ == "__main__":
+    unittest.main()
