@@ -1,6 +1,8 @@
 """What several of the test files need."""
 
+import contextlib
 import copy
+import signal
 
 
 def nested(depth, wrap):
@@ -46,6 +48,21 @@ def spoil(thing):
         else:
             kept.append("spoilt")
             kept.reverse()
+
+
+@contextlib.contextmanager
+def within(seconds):
+    """Fails where what stands in it takes longer: so a test that would wait for ever ends, too."""
+    def too_long(number, frame):
+        raise AssertionError("this takes longer than " + str(seconds) + " seconds")
+
+    before = signal.signal(signal.SIGALRM, too_long)
+    signal.alarm(seconds)
+    try:
+        yield
+    finally:
+        signal.alarm(0)
+        signal.signal(signal.SIGALRM, before)
 
 
 class HandedOver:

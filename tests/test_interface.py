@@ -12,6 +12,10 @@ FUNCTIONS = {
               "filled(why, whys)"],
     "sets": ["thinned(sets)", "agreed(one, other)", "stoppers(accord)", "least(why)"],
     "worths": ["reckoned(why, by, worths)"],
+    "rules": ["is_fact(thing)", "is_atom(thing)", "is_rule(thing)", "vet(facts, rules, rounds)"],
+    "matching": ["matched(terms, row, binding)", "put_in(terms, binding)", "holds(choice, binding)"],
+    "joins": ["instances(rule, tables)"],
+    "runs": ["run(facts, rules, rounds, by, worths)"],
 }
 RECKONINGS = ["Counts()", "Costs()", "Bests(many=3)", "Trusts(top=100)", "Truths()", "Hands()"]
 METHODS = ["fits(thing)", "nought()", "unit()", "either(one, other)", "both(one, other)", "repeated(worth, many)"]

@@ -146,6 +146,8 @@ def node_fault(node):
         return "L6: an except of no named class"
     if isinstance(node, ast.Expr) and not isinstance(node.value, (ast.Call, ast.Constant)):
         return "L6: an expression by itself"
+    if isinstance(node, ast.FormattedValue) and (node.format_spec or not isinstance(node.value, ast.Name)):
+        return "L7: more than a plain name within an f-string's braces"
     return None
 
 
@@ -322,7 +324,8 @@ class FaultsTest(unittest.TestCase):
 
     def test_what_is_let_by(self):
         for text in ['"""A file."""\n', "X = 1\n", "def f(x, y=2):\n    return [a for a in x if a is not None]\n",
-                     "class E(ValueError):\n    pass\n", "def f(x):\n    x.append(-1)\n    return x[0] ** 2\n",
+                     "class E(ValueError):\n    pass\n", "def f(x):\n    return f'{x} {x!r}'\n",
+                     "def f(x):\n    x.append(-1)\n    return x[0] ** 2\n",
                      "def f(x):\n    return sorted(set(x) - set([1])) + [len(set(x))]\n",
                      "def f(x):\n    return [a for a in range(max([b for b, c in x.items()], default=0))]\n"]:
             with self.subTest(text=text):
@@ -349,6 +352,7 @@ class FaultsTest(unittest.TestCase):
             "def f(x):\n    y = set(x)\n    return y\n", "def f(x):\n    return [a for a in set(x)]\n",
             "def f(x):\n    return sorted(set(x), key=len)\n", "def f(x):\n    return set(x) - {1}\n",
             "def f(x):\n    y = range(x)\n    return y\n", "def f(x):\n    return x.items()\n",
+            "def f(x):\n    return f'{x[0]}'\n", "def f(x):\n    return f'{x:3}'\n",
             "def f(x):\n    return int(x, base=2)\n", "class A:\n    pass\n\n\ndef f(A):\n    return 1\n",
         ]:
             with self.subTest(text=text[:80]):

@@ -2,7 +2,7 @@ import itertools
 import unittest
 
 from helpers import SIXTY_FIGURES, HandedOver
-from whyrows.orders import in_order, row_before, value_before
+from whyrows.orders import in_order, pairs_in_order, row_before, value_before
 
 NUMBERS = [-SIXTY_FIGURES, -SIXTY_FIGURES + 1, -10 ** 59, -2 ** 64, -10, -9, -2, -1, 0, 1, 2, 9, 10, 11, 2 ** 64,
            10 ** 59, SIXTY_FIGURES - 1, SIXTY_FIGURES]
@@ -126,6 +126,18 @@ class InOrderTest(unittest.TestCase, HandedOver):
                                ([("a",), (2,), (2,)], [(2,), ("a",)])]:
             with self.subTest(rows=rows):
                 self.assert_own_answer(in_order, lambda: (list(rows),), expected)
+
+
+class PairsInOrderTest(unittest.TestCase):
+    PAIRS = [("a", ()), ("a", (2,)), ("a", (10,)), ("a", ("a",)), ("a", ("a", 1)), ("a1", (0,)), ("aa", ()),
+             ("b", (-1,)), ("b", (1, 2)), ("b", (1, 10)), ("b10", ()), ("b9", ())]
+
+    def test_by_the_table_then_by_the_row(self):
+        for step in (1, 5, 7, 11):
+            shuffled = [self.PAIRS[(place * step) % len(self.PAIRS)] for place in range(len(self.PAIRS))]
+            self.assertEqual(pairs_in_order(shuffled), self.PAIRS)
+            self.assertEqual(pairs_in_order(dict.fromkeys(shuffled)), self.PAIRS)
+        self.assertEqual(pairs_in_order({}), [])
 
 
 if __name__ == "__main__":

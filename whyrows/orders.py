@@ -1,4 +1,4 @@
-"""Which value and which row comes before another (point 5)."""
+"""Which value, which row and which pair (table, row) comes before another (point 5)."""
 
 from whyrows.words import is_whole
 
@@ -28,3 +28,11 @@ def in_order(rows):
     for row in rows:
         once[row] = True
     return sorted(once, key=row_key)
+
+
+def pair_key(pair):
+    return (pair[0], row_key(pair[1]))
+
+
+def pairs_in_order(pairs):
+    return sorted(pairs, key=pair_key)

@@ -1,0 +1,101 @@
+"""What stands behind each round of a run, and with which worths (points 21, 22, 24 and 25).
+
+The rows of all rounds come first, then their worths: a run with too many rows is given up ahead of any reckoning.
+Facts, rules and rounds are vetted, and the worths are asked, ahead of all this.
+"""
+
+from whyrows.errors import TooMuch
+from whyrows.joins import Walk
+from whyrows.orders import pairs_in_order
+
+MOST_ROWS = 60
+
+
+def let_stand(standing, pair):
+    standing[pair] = True
+    if len(standing) > MOST_ROWS:
+        raise TooMuch("more than sixty rows stand")
+
+
+def rows_of_facts(facts):
+    standing = {}
+    for name, table, row in facts:
+        let_stand(standing, (table, row))
+    return standing
+
+
+def let_heads_stand(standing, rule, tables):
+    walk = Walk(rule, tables)
+    instance = walk.following()
+    while instance is not None:
+        let_stand(standing, (rule[0][0], instance[0]))
+        instance = walk.following()
+
+
+def in_tables(standing):
+    tables = {}
+    for table, row in pairs_in_order(standing):
+        tables.setdefault(table, []).append(row)
+    return tables
+
+
+def tables_by_round(facts, rules, rounds):
+    standing = rows_of_facts(facts)
+    told = [in_tables(standing)]
+    for number in range(rounds):
+        many = len(standing)
+        # No row ever goes, so those of the round ahead may stay where they are.
+        for rule in rules:
+            let_heads_stand(standing, rule, told[number])
+        if len(standing) == many:
+            # Where no row came, none comes later.
+            return told + [told[number]] * (rounds - number)
+        told.append(in_tables(standing))
+    return told
+
+
+def add_worth(summed, pair, worth, by):
+    # The sum is always a new worth, so no list of one round or of the asker's stands in another round.
+    summed[pair] = by.either(summed.get(pair, by.nought()), worth)
+
+
+def worths_of_facts(facts, by, worths):
+    summed = {}
+    for name, table, row in facts:
+        add_worth(summed, (table, row), worths[name], by)
+    return summed
+
+
+def worth_of_instance(rule, used, by, ahead):
+    worth = by.unit()
+    for atom, row in zip(rule[1], used):
+        worth = by.both(worth, ahead[(atom[0], row)])
+    return worth
+
+
+def add_instances(summed, rule, tables, by, ahead):
+    walk = Walk(rule, tables)
+    instance = walk.following()
+    while instance is not None:
+        worth = worth_of_instance(rule, instance[1], by, ahead)
+        add_worth(summed, (rule[0][0], instance[0]), worth, by)
+        instance = walk.following()
+
+
+def worths_by_round(facts, rules, rounds, by, worths):
+    tables = tables_by_round(facts, rules, rounds)
+    told = [worths_of_facts(facts, by, worths)]
+    for number in range(rounds):
+        summed = worths_of_facts(facts, by, worths)
+        for rule in rules:
+            add_instances(summed, rule, tables[number], by, told[number])
+        told.append(summed)
+    return told
+
+
+def told_behind(worths):
+    return [(table, row, worths[(table, row)]) for table, row in pairs_in_order(worths)]
+
+
+def told_by_round(facts, rules, rounds, by, worths):
+    return [told_behind(behind) for behind in worths_by_round(facts, rules, rounds, by, worths)]
