@@ -1,4 +1,4 @@
-"""Points 17 to 24 in the plainest words, however slow: what the program tells is held against it.
+"""Points 17 to 24, and the trees of 29, in the plainest words, however slow: what the program tells is held against it.
 
 Nothing here is drawn from the modules that are tested with it, and all bindings are tried out.
 """
@@ -114,3 +114,21 @@ def some_rule(chance, tables, values, most_terms):
     for number in range(chance.choice([0, 0, 0, 1, 2])):
         choices.append((chance.choice(["=", "!=", "!=", "<"]), chance.choice(known + values), chance.choice(known)))
     return (head, tuple(body), tuple(choices))
+
+
+def naive_trees(facts, rules, rounds):
+    """A dict from pairs to all trees that lead there within the rounds, each once."""
+    within = {}
+    for name, table, row in facts:
+        within.setdefault((table, row), []).append(name)
+    grown = within
+    for number in range(rounds):
+        tables = {}
+        for table, row in grown:
+            tables.setdefault(table, []).append(row)
+        ahead, grown = grown, {pair: list(names) for pair, names in within.items()}
+        for place, (head, body, choices) in enumerate(rules):
+            for row, used in naive_instances((head, body, choices), tables):
+                kids = itertools.product(*[ahead[(table, factor)] for (table, terms), factor in zip(body, used)])
+                grown.setdefault((head[0], row), []).extend((place, row, chosen) for chosen in kids)
+    return grown

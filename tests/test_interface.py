@@ -16,6 +16,9 @@ FUNCTIONS = {
     "matching": ["matched(terms, row, binding)", "put_in(terms, binding)", "holds(choice, binding)"],
     "joins": ["instances(rule, tables)"],
     "runs": ["run(facts, rules, rounds, by, worths)"],
+    "whyruns": ["why_run(facts, rules, rounds)"],
+    "telling": ["asked(told, atom)", "settled(told)"],
+    "trees": ["leaves(tree)", "height(tree)", "leads_to(facts, rules, tree)"],
 }
 RECKONINGS = ["Counts()", "Costs()", "Bests(many=3)", "Trusts(top=100)", "Truths()", "Hands()"]
 METHODS = ["fits(thing)", "nought()", "unit()", "either(one, other)", "both(one, other)", "repeated(worth, many)"]

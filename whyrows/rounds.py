@@ -5,8 +5,9 @@ Facts, rules and rounds are vetted, and the worths are asked, ahead of all this.
 """
 
 from whyrows.errors import TooMuch
-from whyrows.joins import Walk
+from whyrows.heads import Heads
 from whyrows.orders import pairs_in_order
+from whyrows.sums import Sums
 
 MOST_ROWS = 60
 
@@ -25,11 +26,11 @@ def rows_of_facts(facts):
 
 
 def let_heads_stand(standing, rule, tables):
-    walk = Walk(rule, tables)
-    instance = walk.following()
-    while instance is not None:
-        let_stand(standing, (rule[0][0], instance[0]))
-        instance = walk.following()
+    heads = Heads(rule, tables)
+    row = heads.following(standing)
+    while row is not None:
+        let_stand(standing, (rule[0][0], row))
+        row = heads.following(standing)
 
 
 def in_tables(standing):
@@ -66,20 +67,9 @@ def worths_of_facts(facts, by, worths):
     return summed
 
 
-def worth_of_instance(rule, used, by, ahead):
-    worth = by.unit()
-    for atom, row in zip(rule[1], used):
-        worth = by.both(worth, ahead[(atom[0], row)])
-    return worth
-
-
-def add_instances(summed, rule, tables, by, ahead):
-    walk = Walk(rule, tables)
-    instance = walk.following()
-    while instance is not None:
-        worth = worth_of_instance(rule, instance[1], by, ahead)
-        add_worth(summed, (rule[0][0], instance[0]), worth, by)
-        instance = walk.following()
+def add_sums(summed, sums, table, rows):
+    for row in rows:
+        add_worth(summed, (table, row), sums.sum_for(row), sums.by)
 
 
 def worths_by_round(facts, rules, rounds, by, worths):
@@ -88,7 +78,9 @@ def worths_by_round(facts, rules, rounds, by, worths):
     for number in range(rounds):
         summed = worths_of_facts(facts, by, worths)
         for rule in rules:
-            add_instances(summed, rule, tables[number], by, told[number])
+            sums = Sums(rule, tables[number], by, told[number])
+            # The rows that come are asked, too: one of them stands by its rule, whatever the sum is.
+            add_sums(summed, sums, rule[0][0], tables[number + 1].get(rule[0][0], []))
         told.append(summed)
     return told
 
