@@ -25,6 +25,16 @@ SIXTY_FIGURES = 10 ** 60 - 1
 FOUR_HUNDRED_FIGURES = 10 ** 400 - 1
 
 
+def singles(many):
+    """So many facts, each of a row of its own."""
+    return [("n" + str(number), "p", (number,)) for number in range(many)]
+
+
+def alike(many, table="p", sign="n"):
+    """So many facts of one row."""
+    return [(sign + str(number), table, ()) for number in range(many)]
+
+
 def kept_in(thing):
     """Every list and dict in a thing, itself among them, each as often as it stands there."""
     found = []

@@ -1,9 +1,11 @@
-"""Points 17 to 24, and the trees of 29, in the plainest words, however slow: what the program tells is held against it.
+"""Points 17 to 24, the trees of 29, and what a deed tells (33 and 34), in the plainest words, however slow: what the
+program tells is held against it.
 
 Nothing here is drawn from the modules that are tested with it, and all bindings are tried out.
 """
 
 import itertools
+import random
 
 from whyrows.whys import plus, times
 
@@ -101,6 +103,10 @@ class AsWhys:
         return times(one, other)
 
 
+def naive_whys(facts, rules, rounds):
+    return naive_run(facts, rules, rounds, AsWhys(), {name: [((name,), 1)] for name, table, row in facts})
+
+
 def some_rule(chance, tables, values, most_terms):
     """A rule, whichever: each of its variables stands in the body."""
     body = []
@@ -132,3 +138,77 @@ def naive_trees(facts, rules, rounds):
                 kids = itertools.product(*[ahead[(table, factor)] for (table, terms), factor in zip(body, used)])
                 grown.setdefault((head[0], row), []).extend((place, row, chosen) for chosen in kids)
     return grown
+
+
+def naive_whys_or_none(facts, rules, rounds):
+    """The run of whys that is due; None where there are too many rows or products, behind whichever round."""
+    for number in range(rounds + 1):
+        told = naive_whys(facts, rules, number)
+        if len(told[-1]) > 60 or max([len(why) for table, row, why in told[-1]], default=0) > 50:
+            return None
+    return told
+
+
+def close_rule(chance):
+    """A rule that nearly always has instances where the rows of p and q have one value."""
+    body = tuple([(chance.choice("pq"), (chance.choice("XY"),)) for number in range(chance.choice([1, 2, 2, 3]))])
+    variables = [terms[0] for table, terms in body]
+    choices = (("!=", variables[0], variables[-1]),) if chance.randrange(4) == 0 else ()
+    return ((chance.choice("pq"), (chance.choice(variables + [3]),)), body, choices)
+
+
+def some_runs(seed, many):
+    """Facts, rules and rounds of all sorts, with the run of whys that is due, or None."""
+    chance = random.Random(seed)
+    for step in range(many):
+        if step % 2 == 0:
+            facts = [(name, chance.choice("pq"), (chance.choice([1, 2]),)) for name in "abcd"[:chance.randrange(1, 5)]]
+            rules = [close_rule(chance) for number in range(chance.randrange(2, 5))]
+        else:
+            values = chance.choice([[1, 2, "a"], [1, "b"]])
+            facts = [(name, chance.choice("pqr"), tuple(chance.choices(values, k=chance.randrange(3))))
+                     for name in "abcdef"[:chance.randrange(7)]]
+            rules = [some_rule(chance, ["p", "q", "r", "s"], values, 2) for number in range(chance.randrange(1, 5))]
+        rounds = chance.choice([1, 2, 2, 3, 3, 4])
+        yield facts, rules, rounds, naive_whys_or_none(facts, rules, rounds)
+
+
+def in_naive_order(pairs):
+    return sorted(pairs, key=lambda pair: (pair[0], key_of_row(pair[1])))
+
+
+def naive_changed(pairs, old, new):
+    """The pairs, in order, whose whys in two dicts are unlike."""
+    return in_naive_order([pair for pair in pairs if old.get(pair, []) != new.get(pair, [])])
+
+
+def naive_using(rules, standing, used_pairs):
+    """The pairs of all instances in the rows that stand which use one of some pairs."""
+    tables = {}
+    for table, row in standing:
+        tables.setdefault(table, []).append(row)
+    found = set()
+    for rule in rules:
+        for row, used in naive_instances(rule, tables):
+            if any((table, factor) in used_pairs for (table, terms), factor in zip(rule[1], used)):
+                found.add((rule[0][0], row))
+    return found
+
+
+def by_pair(run):
+    """What is told behind each round, as dicts."""
+    return [{(table, row): why for table, row, why in behind} for behind in run]
+
+
+def naive_deed(old_run, new_run, rules, places):
+    """What a deed tells, and its trail, of the runs of whys ahead of it and behind it."""
+    old, new = by_pair(old_run), by_pair(new_run)
+    trail = []
+    again = set(places)
+    for number in range(len(old)):
+        if number > 0:
+            changed = naive_changed(again, old[number - 1], new[number - 1])
+            again = set(places) | naive_using(rules, old[number - 1], changed)
+            again |= naive_using(rules, new[number - 1], changed)
+        trail.extend((number, table, row) for table, row in in_naive_order(again))
+    return naive_changed(set(old[-1]) | set(new[-1]), old[-1], new[-1]), trail

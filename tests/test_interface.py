@@ -19,9 +19,12 @@ FUNCTIONS = {
     "whyruns": ["why_run(facts, rules, rounds)"],
     "telling": ["asked(told, atom)", "settled(told)"],
     "trees": ["leaves(tree)", "height(tree)", "leads_to(facts, rules, tree)"],
+    "groves": ["trees(facts, rules, rounds, table, row)", "tree_for(facts, rules, rounds, table, row, product)"],
+    "cheapest": ["cheapest(facts, rules, rounds, costs, table, row)"],
 }
 RECKONINGS = ["Counts()", "Costs()", "Bests(many=3)", "Trusts(top=100)", "Truths()", "Hands()"]
 METHODS = ["fits(thing)", "nought()", "unit()", "either(one, other)", "both(one, other)", "repeated(worth, many)"]
+DEEDS = ["put(fact)", "drop(name)", "move(fact)", "trail()", "facts_told()", "told()", "why(table, row)"]
 
 
 class InterfaceTest(unittest.TestCase):
@@ -48,6 +51,11 @@ class InterfaceTest(unittest.TestCase):
             self.assertTrue(issubclass(made, module.Reckoning))
             for method in METHODS:
                 self.assert_there(made(), method)
+
+    def test_keeper(self):
+        made = self.assert_there(importlib.import_module("whyrows.keeper"), "Keeper(facts, rules, rounds)")
+        for method in DEEDS:
+            self.assert_there(made([], [], 0), method)
 
 
 if __name__ == "__main__":

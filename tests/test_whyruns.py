@@ -3,8 +3,8 @@ import itertools
 import random
 import unittest
 
-from helpers import ODD_THINGS, SIXTY_FIGURES, HandedOver, within
-from naive import AsWhys, key_of_row, naive_run, naive_trees, some_rule
+from helpers import ODD_THINGS, SIXTY_FIGURES, HandedOver, alike, singles, within
+from naive import key_of_row, naive_trees, naive_whys, some_runs
 from whyrows.errors import NoFact, NoName, NoRounds, NoRule, TooMuch
 from whyrows.parts import ways_of, without
 from whyrows.reckonings import Bests, Costs, Counts, Hands, Trusts, Truths
@@ -31,10 +31,6 @@ def just(*names):
 def either(*names):
     """The why of several names, each enough by itself."""
     return [((name,), 1) for name in sorted(names)]
-
-
-def naive_whys(facts, rules, rounds):
-    return naive_run(facts, rules, rounds, AsWhys(), {name: just(name) for name, table, row in facts})
 
 
 def why_of(told, table, row):
@@ -283,15 +279,6 @@ class VettedTest(WhyRunTestCase):
             self.assert_refused(NoFact, [("m", "m")] + many + many, [None], None)
 
 
-def singles(many):
-    return [("n" + str(number), "p", (number,)) for number in range(many)]
-
-
-def alike(many, table="p", sign="n"):
-    """So many facts of one row."""
-    return [(sign + str(number), table, ()) for number in range(many)]
-
-
 class TooManyRowsTest(WhyRunTestCase):
     def test_sixty_rows_of_facts_and_sixty_one(self):
         for rounds in range(6):
@@ -468,39 +455,6 @@ class WithoutLongWaitingTest(WhyRunTestCase):
             self.assert_refused(TooMuch, [], free + [heavy] * 200 + [burst], 3)
             told = why_run([], free + [heavy] * 200, 3)
             self.assertEqual(why_of(told, "q", ()), [((), 200 * 40 ** 3)])
-
-
-def naive_whys_or_none(facts, rules, rounds):
-    """The run of whys that is due; None where there are too many rows or products, behind whichever round."""
-    for number in range(rounds + 1):
-        told = naive_whys(facts, rules, number)
-        if len(told[-1]) > 60 or max([len(why) for table, row, why in told[-1]], default=0) > 50:
-            return None
-    return told
-
-
-def close_rule(chance):
-    """A rule that nearly always has instances where the rows of p and q have one value."""
-    body = tuple([(chance.choice("pq"), (chance.choice("XY"),)) for number in range(chance.choice([1, 2, 2, 3]))])
-    variables = [terms[0] for table, terms in body]
-    choices = (("!=", variables[0], variables[-1]),) if chance.randrange(4) == 0 else ()
-    return ((chance.choice("pq"), (chance.choice(variables + [3]),)), body, choices)
-
-
-def some_runs(seed, many):
-    """Facts, rules and rounds of all sorts, with the run of whys that is due, or None."""
-    chance = random.Random(seed)
-    for step in range(many):
-        if step % 2 == 0:
-            facts = [(name, chance.choice("pq"), (chance.choice([1, 2]),)) for name in "abcd"[:chance.randrange(1, 5)]]
-            rules = [close_rule(chance) for number in range(chance.randrange(2, 5))]
-        else:
-            values = chance.choice([[1, 2, "a"], [1, "b"]])
-            facts = [(name, chance.choice("pqr"), tuple(chance.choices(values, k=chance.randrange(3))))
-                     for name in "abcdef"[:chance.randrange(7)]]
-            rules = [some_rule(chance, ["p", "q", "r", "s"], values, 2) for number in range(chance.randrange(1, 5))]
-        rounds = chance.choice([1, 2, 2, 3, 3, 4])
-        yield facts, rules, rounds, naive_whys_or_none(facts, rules, rounds)
 
 
 def drawn_worths(chance, by, names):

@@ -44,12 +44,17 @@ class Step:
         atom = rule[1][place]
         variables = variables_in(atom[1])
         self.table = atom[0]
+        self.terms = atom[1]
+        self.rows = tables.get(atom[0], [])
         self.shared = tuple([variable for variable in variables if variable in known])
-        self.by_shared = rows_by_shared(atom[1], tables.get(atom[0], []), self.shared)
+        self.by_shared = None
         self.due = choices_due(rule[2], known, known + variables)
         self.asks = asked_later(rule, place, known, wanted)
 
     def joined_on(self, binding):
+        # Not sooner, since many a step is never come to.
+        if self.by_shared is None:
+            self.by_shared = rows_by_shared(self.terms, self.rows, self.shared)
         longer = []
         for row, bound in self.by_shared.get(put_in(self.shared, binding), []):
             together = dict(binding)

@@ -7,15 +7,20 @@ Facts, rules and rounds are vetted, and the worths are asked, ahead of all this.
 from whyrows.errors import TooMuch
 from whyrows.heads import Heads
 from whyrows.orders import pairs_in_order
-from whyrows.sums import Sums
+from whyrows.rules import each_once
+from whyrows.sums import SumsByRule
 
 MOST_ROWS = 60
 
 
-def let_stand(standing, pair):
-    standing[pair] = True
+def ask_few_rows(standing):
     if len(standing) > MOST_ROWS:
         raise TooMuch("more than sixty rows stand")
+
+
+def let_stand(standing, pair):
+    standing[pair] = True
+    ask_few_rows(standing)
 
 
 def rows_of_facts(facts):
@@ -46,7 +51,7 @@ def tables_by_round(facts, rules, rounds):
     for number in range(rounds):
         many = len(standing)
         # No row ever goes, so those of the round ahead may stay where they are.
-        for rule in rules:
+        for rule in each_once(rules):
             let_heads_stand(standing, rule, told[number])
         if len(standing) == many:
             # Where no row came, none comes later.
@@ -75,12 +80,13 @@ def add_sums(summed, sums, table, rows):
 def worths_by_round(facts, rules, rounds, by, worths):
     tables = tables_by_round(facts, rules, rounds)
     told = [worths_of_facts(facts, by, worths)]
+    sums = None
     for number in range(rounds):
         summed = worths_of_facts(facts, by, worths)
+        sums = SumsByRule(tables[number], by, told[number], sums)
         for rule in rules:
-            sums = Sums(rule, tables[number], by, told[number])
             # The rows that come are asked, too: one of them stands by its rule, whatever the sum is.
-            add_sums(summed, sums, rule[0][0], tables[number + 1].get(rule[0][0], []))
+            add_sums(summed, sums.sums_of(rule), rule[0][0], tables[number + 1].get(rule[0][0], []))
         told.append(summed)
     return told
 

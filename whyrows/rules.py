@@ -71,6 +71,10 @@ def is_rule(thing):
     return are_known(thing[0][1], known) and all([are_known(choice[1:], known) for choice in thing[2]])
 
 
+def each_once(rules):
+    return list(dict([(rule, True) for rule in rules]))
+
+
 def vet_facts(facts):
     taken = {}
     for fact in facts:

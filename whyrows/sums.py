@@ -19,11 +19,17 @@ class Sums:
         self.ahead = ahead
         self.seen = {}
 
-    def sum_for(self, row):
+    def binding_for(self, row):
         binding = matched(self.head_terms, row, {})
-        if binding is None or not all_hold(self.due, binding):
-            return self.by.nought()
-        return self.sum_from(0, binding)
+        return binding if binding is not None and all_hold(self.due, binding) else None
+
+    def pairs_from(self, place, binding):
+        step = self.steps[place]
+        return [((step.table, row), together) for row, together in step.joined_on(binding)]
+
+    def sum_for(self, row):
+        binding = self.binding_for(row)
+        return self.by.nought() if binding is None else self.sum_from(0, binding)
 
     def sum_from(self, place, binding):
         if place == len(self.steps):
@@ -34,9 +40,38 @@ class Sums:
         return self.seen[mark]
 
     def sum_anew(self, place, binding):
-        step = self.steps[place]
         summed = self.by.nought()
-        for row, together in step.joined_on(binding):
-            worth = self.by.both(self.ahead[(step.table, row)], self.sum_from(place + 1, together))
+        for pair, together in self.pairs_from(place, binding):
+            worth = self.by.both(self.ahead[pair], self.sum_from(place + 1, together))
             summed = self.by.either(summed, worth)
         return summed
+
+
+# Rules that are written alike give the same, and so does a rule whose tables stayed as they were a round earlier: none
+# of this is reckoned twice. Earlier are the sums of that round, or None.
+class SumsByRule:
+    def __init__(self, tables, by, ahead, earlier):
+        self.tables = tables
+        self.by = by
+        self.ahead = ahead
+        self.earlier = earlier
+        self.stayed = {}
+        self.by_rule = {}
+
+    def sums_of(self, rule):
+        if rule not in self.by_rule:
+            self.by_rule[rule] = self.sums_again(rule)
+        return self.by_rule[rule]
+
+    def sums_again(self, rule):
+        if self.earlier is not None and all([self.has_stayed(table) for table, terms in rule[1]]):
+            return self.earlier.sums_of(rule)
+        return Sums(rule, self.tables, self.by, self.ahead)
+
+    def has_stayed(self, table):
+        if table not in self.stayed:
+            self.stayed[table] = self.worths_in(table) == self.earlier.worths_in(table)
+        return self.stayed[table]
+
+    def worths_in(self, table):
+        return [(row, self.ahead[(table, row)]) for row in self.tables.get(table, [])]
