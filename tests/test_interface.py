@@ -21,10 +21,14 @@ FUNCTIONS = {
     "trees": ["leaves(tree)", "height(tree)", "leads_to(facts, rules, tree)"],
     "groves": ["trees(facts, rules, rounds, table, row)", "tree_for(facts, rules, rounds, table, row, product)"],
     "cheapest": ["cheapest(facts, rules, rounds, costs, table, row)"],
+    "texts": ["show_atom(atom)", "show_fact(fact)", "show_rule(rule)", "read_atom(text)", "read_fact(text)",
+              "read_rule(text)"],
+    "whytexts": ["show_why(why)", "read_why(text)"],
 }
 RECKONINGS = ["Counts()", "Costs()", "Bests(many=3)", "Trusts(top=100)", "Truths()", "Hands()"]
 METHODS = ["fits(thing)", "nought()", "unit()", "either(one, other)", "both(one, other)", "repeated(worth, many)"]
 DEEDS = ["put(fact)", "drop(name)", "move(fact)", "trail()", "facts_told()", "told()", "why(table, row)"]
+ENTRIES = ["price(name, worth)", "enter(table, row, why)", "worth(table, row)", "told()"]
 
 
 class InterfaceTest(unittest.TestCase):
@@ -56,6 +60,20 @@ class InterfaceTest(unittest.TestCase):
         made = self.assert_there(importlib.import_module("whyrows.keeper"), "Keeper(facts, rules, rounds)")
         for method in DEEDS:
             self.assert_there(made([], [], 0), method)
+
+    def test_ledger(self):
+        made = self.assert_there(importlib.import_module("whyrows.ledger"), "Ledger(by)")
+        for by in importlib.import_module("whyrows.reckonings").Reckoning.__subclasses__():
+            for method in ENTRIES:
+                self.assert_there(made(by()), method)
+
+    def test_desk(self):
+        made = self.assert_there(importlib.import_module("whyrows.desk"), "Desk(rounds)")
+        self.assert_there(made(0), "say(row)")
+
+    def test_signs(self):
+        # Its names are the program's own affair.
+        importlib.import_module("whyrows.signs")
 
 
 if __name__ == "__main__":

@@ -24,6 +24,7 @@ NAMES_NOWHERE = set("""register mro elements open input version_info with_traceb
     locals methodcaller os quit setattr super vars sys chr print format format_map""".split())
 KEYWORDS = {"sorted": {"key", "reverse"}, "min": {"key", "default"}, "max": {"key", "default"}, "sum": {"start"},
             "enumerate": {"start"}, "zip": {"strict"}}
+CHANGING_METHODS = {"append", "clear", "extend", "insert", "pop", "remove", "reverse", "setdefault", "update"}
 WALKED_AT_ONCE = {"zip", "enumerate", "reversed", "range"}
 WALKED_METHODS = {"items", "keys", "values"}
 WALKERS = {"list", "tuple", "dict", "sorted", "sum", "any", "all", "enumerate", "zip", "min", "max"}
@@ -142,6 +143,8 @@ def node_fault(node):
         return "L6: else behind a loop"
     if isinstance(node, ast.Try) and node.finalbody:
         return "L6: finally"
+    if isinstance(node, ast.Try):
+        return "L19: a try (the package has none; what may stand in one is not asked here)"
     if isinstance(node, ast.ExceptHandler) and node.type is None:
         return "L6: an except of no named class"
     if isinstance(node, ast.Expr) and not isinstance(node.value, (ast.Call, ast.Constant)):
@@ -258,6 +261,80 @@ def shadow_faults(tree):
             yield node.lineno, "L15: a local called like a class or an import"
 
 
+def annotation_faults(tree):
+    for node in ast.walk(tree):
+        if isinstance(node, ast.arg) and node.annotation or isinstance(node, ast.FunctionDef) and node.returns:
+            yield node.lineno, "L21: an annotation"
+
+
+def is_key(node, around):
+    return isinstance(around[node], ast.keyword) and around[node].arg == "key"
+
+
+def handed_on_faults(tree, own):
+    """What may only be called, or stand at few other places: Python's own functions, methods, and classes."""
+    around = {part: node for node in ast.walk(tree) for part in ast.iter_child_nodes(node)}
+    classes = {node.name for node in ast.walk(tree) if isinstance(node, ast.ClassDef)} | {
+        alias.name for node in tree.body if isinstance(node, ast.ImportFrom)
+        for alias in node.names if alias.name[0].isupper() and not alias.name.isupper()}
+    for node in ast.walk(tree):
+        is_called = isinstance(around.get(node), ast.Call) and around[node].func is node
+        if isinstance(node, ast.Attribute) and isinstance(node.ctx, ast.Load) and not is_called:
+            if node.attr in OWN_METHODS | own and not is_key(node, around):
+                yield node.lineno, "L25: a method that is not called where it stands: " + node.attr
+        if isinstance(node, ast.Name) and isinstance(node.ctx, ast.Load) and not is_called:
+            by_isinstance = called(around[node]) == "isinstance" or (
+                isinstance(around[node], ast.Tuple) and called(around[around[node]]) == "isinstance")
+            if node.id in OWN_NAMES and not by_isinstance and not is_key(node, around):
+                if not isinstance(around[node], (ast.ClassDef, ast.ExceptHandler)):
+                    yield node.lineno, "L22: a name of Python's own that is not called: " + node.id
+            if node.id in classes and not by_isinstance:
+                if not isinstance(around[node], (ast.ClassDef, ast.ExceptHandler, ast.Raise, ast.Attribute)):
+                    yield node.lineno, "L18: a class that is kept, handed on or shown: " + node.id
+
+
+def target_faults(tree):
+    for node in ast.walk(tree):
+        for target in getattr(node, "targets", []) + ([node.target] if isinstance(node, ast.AugAssign) else []):
+            while isinstance(target, (ast.Attribute, ast.Subscript)):
+                target = target.value
+            if not isinstance(target, (ast.Name, ast.Tuple)):
+                yield node.lineno, "L18: a value that is not given through a local name"
+
+
+def walked_names(node):
+    """The names, as texts, that a loop walks by itself or through what walks them."""
+    if called(node) in ("enumerate", "zip", "reversed"):
+        return [name for part in node.args for name in walked_names(part)]
+    if isinstance(node, ast.Call) and isinstance(node.func, ast.Attribute) and node.func.attr in WALKED_METHODS:
+        return walked_names(node.func.value)
+    return [ast.unparse(node)] if isinstance(node, (ast.Name, ast.Attribute, ast.Subscript)) else []
+
+
+def changed_names(node):
+    """The names, as texts, of what a loop's body changes."""
+    for part in ast.walk(node):
+        if isinstance(part, ast.Call) and isinstance(part.func, ast.Attribute) and part.func.attr in CHANGING_METHODS:
+            yield ast.unparse(part.func.value)
+        if isinstance(part, ast.Subscript) and isinstance(part.ctx, ast.Store):
+            yield ast.unparse(part.value)
+
+
+def loop_faults(tree):
+    for node in ast.walk(tree):
+        if isinstance(node, ast.For):
+            changed = {name for part in node.body for name in changed_names(part)}
+            for name in changed & set(walked_names(node.iter)):
+                yield node.lineno, "L23: what a loop walks is changed in it: " + name
+
+
+def init_faults(tree):
+    for node in ast.walk(tree):
+        if isinstance(node, ast.FunctionDef) and node.name == "__init__":
+            if any(isinstance(part, ast.Return) for part in ast.walk(node)):
+                yield node.lineno, "L28: an __init__ that gives something back"
+
+
 def class_name_faults(trees):
     """What is asked of the names of methods and values in the whole package."""
     methods, values = methods_of(trees), values_of(trees)
@@ -274,6 +351,8 @@ def faults(text, defined_in=None, own=frozenset()):
     tree = ast.parse(text)
     found = list(text_faults(text)) + list(top_faults(tree)) + list(place_faults(tree)) + list(shadow_faults(tree))
     found += list(import_faults(tree, defined_in or {})) + list(method_faults(tree, own))
+    found += list(annotation_faults(tree)) + list(handed_on_faults(tree, own)) + list(target_faults(tree))
+    found += list(loop_faults(tree)) + list(init_faults(tree))
     for node in ast.walk(tree):
         fault = node_fault(node)
         if fault:
@@ -327,7 +406,10 @@ class FaultsTest(unittest.TestCase):
                      "class E(ValueError):\n    pass\n", "def f(x):\n    return f'{x} {x!r}'\n",
                      "def f(x):\n    x.append(-1)\n    return x[0] ** 2\n",
                      "def f(x):\n    return sorted(set(x) - set([1])) + [len(set(x))]\n",
-                     "def f(x):\n    return [a for a in range(max([b for b, c in x.items()], default=0))]\n"]:
+                     "def f(x):\n    return [a for a in range(max([b for b, c in x.items()], default=0))]\n",
+                     "def f(x):\n    return isinstance(x, (int, str)) or sorted(x, key=len) == list(x)\n",
+                     "class A:\n    pass\n\n\nclass B(A):\n    def __init__(self):\n        A.__init__(self)\n",
+                     "def f(x):\n    for y in list(x):\n        x[y] = 1\n    y = x[0]\n    y[1] = 2\n"]:
             with self.subTest(text=text):
                 self.assertEqual(faults(text), [])
 
@@ -354,6 +436,14 @@ class FaultsTest(unittest.TestCase):
             "def f(x):\n    y = range(x)\n    return y\n", "def f(x):\n    return x.items()\n",
             "def f(x):\n    return f'{x[0]}'\n", "def f(x):\n    return f'{x:3}'\n",
             "def f(x):\n    return int(x, base=2)\n", "class A:\n    pass\n\n\ndef f(A):\n    return 1\n",
+            "def f(x: int):\n    return x\n", "def f(x) -> int:\n    return x\n",
+            "def f(x):\n    return [len, x]\n", "def f(x):\n    y = x.append\n    return y\n",
+            "class A:\n    pass\n\n\ndef f(x):\n    return [A]\n", "def f(x):\n    f(x)[0] = 1\n",
+            "def f(x):\n    x.setdefault(1, {})[0] = 1\n", "def f(x):\n    for y in x:\n        x.append(y)\n",
+            "def f(x):\n    for y, z in x.items():\n        x[y] = z\n",
+            "def f(x):\n    for y, z in enumerate(x):\n        x.pop(y)\n",
+            "class A:\n    def __init__(self):\n        return None\n",
+            "def f(x):\n    try:\n        x()\n    except KeyError:\n        pass\n",
         ]:
             with self.subTest(text=text[:80]):
                 self.assertNotEqual(faults(text), [])

@@ -90,6 +90,9 @@ class AskedTest(unittest.TestCase, HandedOver):
         for atom in ODD_ATOMS:
             rows = [row for row, worth in asked(BEHIND, atom)]
             self.assertEqual(rows, [row for table, row, worth in BEHIND if row in rows and table == atom[0]])
+            # What is asked stands in order, however the rows stood that were handed in.
+            self.assert_asked(BEHIND[::-1], atom, asked(BEHIND, atom))
+            self.assert_asked(BEHIND[7:] + BEHIND[:7], atom, asked(BEHIND, atom))
 
     def test_each_kind_of_worth(self):
         for worth in [0, -5, MUCH, None, True, False, [], [0], [-1, 2, 2], [()], [("x",), ("y", "z")], [((), 1)],

@@ -1,6 +1,7 @@
 """What is asked of a run that was told, and where it has settled (point 26)."""
 
 from whyrows.matching import matched
+from whyrows.orders import row_key
 
 
 def own(worth):
@@ -13,7 +14,8 @@ def is_asked(atom, table, row):
 
 
 def asked(told, atom):
-    return [(row, own(worth)) for table, row, worth in told if is_asked(atom, table, row)]
+    found = [(row, own(worth)) for table, row, worth in told if is_asked(atom, table, row)]
+    return sorted(found, key=lambda pair: row_key(pair[0]))
 
 
 def settled(told):
